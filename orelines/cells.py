@@ -33,6 +33,13 @@ class Bench:
     def is_ore_by_itself(self, at):
         return self.ore_worth(at) > self.waste_worth(at)
 
+    def greatest_pattern(self):
+        return (1 << self.nx) - 1
+
+    # The kilograms and the metal of these cells together.
+    def amounts_at(self, places):
+        return [sum([self.kilograms[at] for at in places]), sum([self.metal[at] for at in places])]
+
     def row_worth(self, y, pattern):
         worth = 0
         for x in range(self.nx):
@@ -53,3 +60,22 @@ class Bench:
 
 def goes_as_ore(pattern, x):
     return (pattern >> x) & 1 == 1
+
+
+# The cells that go as ore, each as x and y, row by row; a dict, as each of them is asked for by its neighbours.
+def ore_cells(bench, lines):
+    found = {}
+    for y, pattern in enumerate(lines):
+        for x in range(bench.nx):
+            if goes_as_ore(pattern, x):
+                found[(x, y)] = True
+    return found
+
+
+# Another bench like this one, but for what is told of one cell: so this one need not be changed for a while.
+def with_told(bench, at, told):
+    rates = [bench.price, bench.cost, bench.dumping]
+    other = Bench(bench.nx, bench.ny, rates, bench.widths, bench.kilograms, bench.metal)
+    other.told = list(bench.told)
+    other.told[at] = told
+    return other

@@ -1,4 +1,4 @@
-"""Lines on a bench: the best ones, the tables that show that none are better, and what is wrong with given ones."""
+"""Lines on a bench: the best ones, the tables that show that none are better, how many there are, and their faults."""
 
 from orelines.patterns import Rules
 
@@ -53,6 +53,32 @@ def tables_from(bench, first, beside):
 
 def table_of(bench, y):
     return tables_from(bench, y, neighbours(Rules(bench)))[0]
+
+
+# The most that lines are worth, or None if no lines may be drawn.
+def most_worth(bench):
+    return max(list(table_of(bench, 0).values()), default=None)
+
+
+# For each pattern of row y in how many ways the rows before it may be drawn; before holds the row before's.
+def row_ways(bench, y, before, beside):
+    ways = {}
+    for pattern in beside:
+        if not bench.row_is_as_told(y, pattern):
+            continue
+        if y == 0:
+            ways[pattern] = 1
+        else:
+            ways[pattern] = sum([before[other] for other in beside[pattern] if other in before])
+    return ways
+
+
+def count_lines(bench):
+    beside = neighbours(Rules(bench))
+    ways = {}
+    for y in range(bench.ny):
+        ways = row_ways(bench, y, ways, beside)
+    return sum(ways.values())
 
 
 # Of several patterns with the most max takes the first, and patterns rise: so the least is taken.

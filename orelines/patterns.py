@@ -33,7 +33,7 @@ def wide_patterns(nx, ore, waste):
 # Made anew for each call that asks, as the bench's widths may have changed since.
 class Rules:
     def __init__(self, bench):
-        self.greatest = (1 << bench.nx) - 1
+        self.greatest = bench.greatest_pattern()
         self.wide_rows = wide_patterns(bench.nx, bench.widths[0], bench.widths[1])
         self.wide_necks = wide_patterns(bench.nx, bench.widths[2], ANY_WIDTH)
 

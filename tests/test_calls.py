@@ -3,7 +3,9 @@
 import unittest
 
 from orelines.bench import answers
-from tests.helper import ask, ask_last, bench, best, cell, change, check, fix, price, table, widths
+from tests.helper import (
+    ask, ask_last, bench, best, cell, change, check, count, fill, fix, forced, free, losses, outlines, pieces, price,
+    runs, table, told, widths)
 
 KILOGRAMS = [10, 20, 30, 40, 50, 60]
 METAL = [1, 2, 3, 100, 200, 300]
@@ -134,6 +136,29 @@ class ManyCallsTest(unittest.TestCase):
             [0, 1, 1, 1], [0, 10, 1, 2], [0, 1, 10], [0, 0], [0, 0, 0, 3], [0], [0, -6, 0, 0], [0, 2],
             [0, 1, 5, -1, -1, 2, 0],
         ])
+
+    def test_all_kinds_one_behind_another(self):
+        laid = bench(2, 2, 2, 1, 1, (1, 1, 1), [1, 2, 3, 4], [5, 0, 0, 5])
+        calls = [told(), laid, count(), free(), losses([3, 1]), pieces([1, 2]), outlines([1, 3]),
+                 fill([4, 0, 0, 2, 0, 2, 1, 0, 1]), runs(2), forced(0, 0, 2), fix(0, 0, 1), count(), forced(0, 0, 2),
+                 widths(2, 1, 1), runs(2), count(), price(0), free(), best(), forced(1, 1, 2), change(1, 1, 0, 0),
+                 losses([3, 1]), pieces([3, 2]), fill([]), told()]
+        self.assertEqual(ask(*calls), [
+            [-8], [0], [0, 16], [0, 9 - 2 - 3 + 6], [0, 6, 5, 4, 5, 5, 0, 10],
+            [0, 0, 0, 1, 1, 5, 1, 1, 1, 4, 5], [0, 6, 0, 0, 1, 0, 1, 1, 2, 1, 2, 2, 0, 2],
+            [0, 3, 0], [0, 1, 0, 0, 0, 1, 1, 1], [0, 0], [0, 0], [0, 8], [0, 0],
+            [0, 1, 1, 1], [0, 0, 0, 0, 0, 1, 1, 1], [0, 2], [0, 2], [0, -10], [0, -10, 3, 0], [0, -10], [0],
+            [0, 6, 5, 0, 0, 6, 5, 0], [0, 0, 0, 3, 3, 5], [0, 0, 0],
+            [0, 2, 2, 0, 1, 1, 2, 1, 1, 1, 5, 2, 0, 3, 0, 0, 0, 1, 0, 0, 0],
+        ])
+
+    def test_how_many_numbers_stand_before_the_answers_of_one_cell(self):
+        laid = bench(1, 1, 2, 1, 1, (1, 1, 1), [3], [4])
+        calls = laid + count() + free() + losses([0]) + pieces([1]) + outlines([1]) + fill([]) + runs(1)
+        calls += forced(0, 0, 2) + told() + runs(2) + count()
+        self.assertEqual(answers(calls), [
+            1, 0, 2, 0, 2, 2, 0, 5, 8, 0, 0, 0, 3, 4, 0, 0, 8, 6, 0, 0, 0, 1, 3, 4, 10, 0, 4, 0, 0, 1, 0, 1, 1, 0, 1,
+            2, 0, 0, 5, 0, 1, 1, 0, 0, 2, 0, -3, 12, 0, 1, 1, 2, 1, 1, 1, 1, 1, 3, 4, 0, 1, -3, 2, 0, 2])
 
     def test_how_many_numbers_stand_before_each_answer(self):
         calls = SIX + cell(0, 0) + fix(0, 0, 1) + cell(9, 0) + best() + widths(1, 1, 1) + check([0, 0])

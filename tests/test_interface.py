@@ -8,7 +8,9 @@ import re
 import unittest
 
 from orelines.bench import answers
-from tests.helper import ask, bench, best, cell, change, check, fix, price, table, widths
+from tests.helper import (
+    ask, bench, best, cell, change, check, count, fill, fix, forced, free, losses, outlines, pieces, price, runs, table,
+    told, widths)
 
 
 class WatchedList(list):
@@ -24,7 +26,9 @@ class WatchedList(list):
 def many_calls():
     laid = bench(3, 3, 4, 1, 1, (2, 1, 2), range(9), range(9, 0, -1))
     calls = [cell(0, 0), laid, best(), fix(1, 1, 2), change(0, 0, 5, 5), widths(1, 1, 3), price(3), best(), table(1),
-             check([0, 7, 7]), check([0, 5, 0]), check([0]), laid, cell(1, 1), price(8), widths(4, 4, 4)]
+             check([0, 7, 7]), check([0, 5, 0]), check([0]), count(), free(), losses([0, 7, 3]), pieces([5, 0, 7]),
+             outlines([7, 5, 7]), fill([4, 0, 0, 3, 0, 3, 2, 0, 2]), fill([3]), fill([4] + [0] * 8), runs(5), runs(9),
+             forced(1, 1, 1), forced(3, 0, 1), told(), laid, cell(1, 1), price(8), widths(4, 4, 4), told()]
     return [number for call in calls for number in call]
 
 
@@ -73,6 +77,28 @@ class InterfaceTest(unittest.TestCase):
         long_bench = bench(3, 1, widths=[1] * 500, kilograms=[1] * 500, metal=[1] * 500)
         found = ask(long_lines, long_bench, bench(1, 1), long_lines, long_bench, cell(0, 0))
         self.assertEqual(found, [[-1], [-1], [0], [-1], [-1], [0] * 7])
+        for build in (losses, pieces, outlines, fill):
+            given = build([source.randrange(3) for _ in range(500)])
+            refusal = [-5] if build == fill else [-1]
+            self.assertEqual(ask(bench(1, 1), given, cell(0, 0), given, told())[1:4:2], [refusal] * 2)
+            self.assertEqual(ask(bench(1, 1), given, cell(0, 0))[2], [0] * 7)
+
+    def test_the_longest_list_of_calls(self):
+        numbers = [4, 0, 0, 7, 0, 7, 8, 0, 8] * 55
+        calls = [bench(7, 8)] + [fill(numbers)] * 31
+        self.assertLessEqual(sum(len(call) for call in calls), 16000)
+        self.assertEqual(ask(*calls)[1:], [[0] + [127] * 8] * 31)
+
+    def test_four_hundred_calls_of_each_kind_that_takes_lines(self):
+        board = [0b1010101, 0b0101010] * 4
+        for build, length in ((losses, 8), (pieces, 1 + 28 * 5), (outlines, 1 + 28 * 9)):
+            found = ask(bench(7, 8), *[build(board)] * 399)
+            self.assertEqual(found[1:], [found[1]] * 399)
+            self.assertEqual(len(found[1]), length)
+
+    def test_twenty_searches_of_the_kinds_that_tell_one_number(self):
+        found = ask(bench(7, 8), *[count()] * 10, *[forced(6, 7, 1)] * 10)
+        self.assertEqual(found[1:], [[0, 2 ** 56]] * 10 + [[0, 0]] * 10)
 
     def test_the_readme_example(self):
         text = (pathlib.Path(__file__).resolve().parent.parent / "README.md").read_text(encoding="utf-8")
